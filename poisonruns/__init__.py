@@ -1,0 +1,1 @@
+"""Poisonruns: reasons about tests that poison other tests."""

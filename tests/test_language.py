@@ -1,0 +1,124 @@
+"""The plainest of the rules for the code: L1 to L4, L8, L10, L14, L16, L17, L25 and L27."""
+
+import ast
+import builtins
+import os
+import re
+import unittest
+
+import poisonruns
+
+FOLDER = os.path.dirname(os.path.abspath(poisonruns.__file__))
+BUILTINS = """len range enumerate zip min max sum abs sorted reversed int str bool list tuple dict set isinstance ord repr
+any all divmod pow getattr hasattr setattr iter next map Exception ValueError TypeError KeyError IndexError LookupError
+ZeroDivisionError ArithmeticError OverflowError RuntimeError NotImplementedError AttributeError StopIteration
+NotImplemented classmethod staticmethod property super""".split()
+METHODS = """append clear copy count endswith extend find get index insert isalnum isalpha isdigit islower isspace isupper
+items join keys ljust lower lstrip partition pop remove replace reverse rfind rjust rpartition rsplit rstrip setdefault
+split splitlines startswith strip update upper values zfill bit_length title capitalize swapcase casefold center
+expandtabs removeprefix removesuffix rindex isascii isdecimal isnumeric istitle isidentifier isprintable add discard
+sort""".split()
+NOT_USED = """register mro elements open input law version_info with_traceback add_note type typing enum Enum dataclass
+namedtuple NamedTuple TypedDict Generic Protocol ABC compile dir eval exec exit globals help id locals os quit vars
+frozenset bytes chr print hash callable filter round format""".split()
+FORBIDDEN = (ast.Global, ast.AsyncFunctionDef, ast.Await, ast.Div, ast.Import, ast.AnnAssign, ast.Set)
+
+
+def sources():
+    for name in sorted(os.listdir(FOLDER)):
+        if name != "__pycache__":
+            with open(os.path.join(FOLDER, name), encoding="utf-8", newline="") as file:
+                yield name, file.read()
+
+
+def imports(tree):
+    return [part for part in ast.walk(tree) if isinstance(part, ast.ImportFrom)]
+
+
+class Files(unittest.TestCase):
+    def test_names_and_characters(self):
+        for name, text in sources():
+            self.assertRegex(name, r"\A[a-z_][a-z0-9_]*\.py\Z")
+            self.assertIsNone(re.search(r"[^ -~\n]", text), name)
+
+    def test_sizes(self):
+        for name, text in sources():
+            lines = text.split("\n")
+            self.assertLessEqual(len(lines), 399, name)
+            self.assertLessEqual(max(len(line) for line in lines), 120, name)
+            for part in ast.walk(ast.parse(text)):
+                if isinstance(part, ast.FunctionDef):
+                    self.assertLessEqual(part.end_lineno - part.lineno + 1, 40, (name, part.name))
+
+
+class Imports(unittest.TestCase):
+    LIBRARY = ("heapq", "math", "itertools", "collections")
+
+    def test_only_from_the_defining_file(self):
+        trees = {name: ast.parse(text) for name, text in sources()}
+        for name, tree in trees.items():
+            for part in imports(tree):
+                self.assertIn(part, tree.body)
+                self.assertEqual(part.level, 0, name)
+                if part.module not in self.LIBRARY:
+                    package, file = part.module.split(".")
+                    self.assertEqual(package, "poisonruns")
+                    body = trees[file + ".py"].body
+                    own = [there.name for there in body if isinstance(there, (ast.FunctionDef, ast.ClassDef))]
+                    own += [there.targets[0].id for there in body if isinstance(there, ast.Assign)]
+                    self.assertLessEqual({alias.name for alias in part.names}, set(own), name)
+
+    def test_no_circles(self):
+        rest = {name[:-3]: {part.module.split(".")[-1] for part in imports(ast.parse(text))}
+                for name, text in sources()}
+        while rest:
+            free = [name for name, needs in rest.items() if not needs & set(rest)]
+            self.assertTrue(free, rest)
+            rest = {name: rest[name] for name in rest if name not in free}
+
+    def test_every_import_is_used(self):
+        for name, text in sources():
+            for part in imports(ast.parse(text)):
+                for alias in part.names:
+                    self.assertGreater(len(re.findall(rf"\b{alias.name}\b", text)), 1, (name, alias.name))
+
+
+class Words(unittest.TestCase):
+    def test_module_level(self):
+        for name, text in sources():
+            for at, part in enumerate(ast.parse(text).body):
+                docstring = at == 0 and isinstance(part, ast.Expr) and isinstance(part.value, ast.Constant)
+                plain = (ast.ImportFrom, ast.FunctionDef, ast.ClassDef, ast.Assign)
+                self.assertTrue(docstring or isinstance(part, plain), (name, part.lineno))
+
+    def test_statements(self):
+        for name, text in sources():
+            for part in ast.walk(ast.parse(text)):
+                self.assertNotIsInstance(part, FORBIDDEN, (name, getattr(part, "lineno", None)))
+                self.assertFalse(isinstance(part, ast.Constant) and isinstance(part.value, (float, complex)), name)
+
+    def test_builtins(self):
+        for name, text in sources():
+            for part in ast.walk(ast.parse(text)):
+                if isinstance(part, ast.Name) and part.id in vars(builtins):
+                    self.assertIn(part.id, BUILTINS, (name, part.lineno))
+                    self.assertIsInstance(part.ctx, ast.Load, (name, part.lineno))
+                if isinstance(part, (ast.arg, ast.FunctionDef, ast.ClassDef)):
+                    told = part.arg if isinstance(part, ast.arg) else part.name
+                    self.assertNotIn(told, vars(builtins), name)
+
+    def test_methods(self):
+        own = {part.name for _, text in sources() for part in ast.walk(ast.parse(text))
+               if isinstance(part, ast.FunctionDef)}
+        for name, text in sources():
+            for part in ast.walk(ast.parse(text)):
+                if isinstance(part, ast.Call) and isinstance(part.func, ast.Attribute):
+                    self.assertIn(part.func.attr, own | set(METHODS), (name, part.lineno))
+
+    def test_words_that_are_not_used(self):
+        for name, text in sources():
+            for part in ast.walk(ast.parse(text)):
+                for field in ("id", "attr", "arg", "name"):
+                    self.assertNotIn(getattr(part, field, None), NOT_USED, (name, getattr(part, "lineno", None)))
+                if isinstance(part, ast.Constant) and isinstance(part.value, str):
+                    self.assertNotIn("%", part.value, name)
