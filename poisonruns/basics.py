@@ -1,6 +1,11 @@
-"""What a name, a sequence and a row of names are."""
+"""What an integer, a name, a sequence and a row of names are."""
 
 from poisonruns.errors import InvalidRows, NoTest
+
+
+def is_integer(value):
+    """Whether any value is an integer; a bool is none."""
+    return isinstance(value, int) and not isinstance(value, bool)
 
 
 def is_name(value):

@@ -10,6 +10,11 @@ LOOKS = ("never", "on", "off")
 TOUCHES = {"sets": True, "clears": False}
 
 
+def words_of(what):
+    """The three words for what a test "does" with a thing, or for its "look" at it."""
+    return DOES if what == "does" else LOOKS
+
+
 def is_sign(value):
     """Whether any value is a pair of what a test does with a thing and how it looks at it."""
     return isinstance(value, tuple) and len(value) == 2 and value[0] in DOES and value[1] in LOOKS

@@ -1,6 +1,7 @@
 """Values of every kind for the tests, and small helpers."""
 
 from poisonruns import errors
+from poisonruns.evidence import Evidence
 from poisonruns.runs import Run
 from poisonruns.tables import Table
 
@@ -21,6 +22,7 @@ def any_values():
         [], (), [[]], [()], ((),), ([],), [None], (0,), ["none"], [("a", None)], [("a", 1)], [[("a", 1)]], ["a", 3, True],
         nested(8, "a", list), nested(8, "a", tuple), nested(7, [], tuple),
         Run([[("a", True)]]), Table({"a": [("sets", "on")]}), [Run([[("a", True)]])], (Table({"a": [("sets", "on")]}),),
+        Evidence(["a"]), [Evidence(["a"], [Run([[("a", True)]])])], (Evidence(["b", "a"], (), 2, 1),),
         errors.PoisonError(), errors.Impossible(), errors.InvalidRun(3), errors.NoTest("a"), [errors.NoRun(1)],
     ]
 

@@ -27,6 +27,29 @@ CLASSES = {
             ("__len__", []), ("__eq__", None), ("__str__", []),
         ]),
     },
+    "evidence": {
+        "Evidence": (["names", "runs", "things", "slips"], [
+            ("plus", ["run"]), ("without", ["at"]), ("allowing", ["slips"]), ("explained", ["table"]),
+            ("read", ["text"]), ("__add__", None), ("__len__", []), ("__getitem__", None), ("__eq__", None),
+            ("__str__", []),
+        ]),
+    },
+}
+FUNCTIONS = {
+    "deciding": {
+        "many": ["evidence"], "table_for": ["evidence"], "outlook": ["evidence", "rows"],
+        "surely": ["evidence", "rows"], "parting": ["evidence", "rows"], "poisons": ["evidence"],
+        "heals": ["evidence"], "may_poison": ["evidence"], "free": ["evidence"],
+    },
+    "papers": {
+        "impossible": ["evidence"], "impossible_holds": ["evidence", "value"],
+        "sure": ["evidence", "rows", "row", "place", "word"],
+        "sure_holds": ["evidence", "rows", "row", "place", "word", "value"],
+    },
+    "orders": {
+        "safe_order": ["evidence"], "safe_orders": ["evidence"], "clearings": ["evidence", "order"],
+        "apart": ["evidence", "workers"], "near": ["names"],
+    },
 }
 PLAIN = ["PoisonError", "Impossible", "InvalidCommand", "Mismatch"]
 
@@ -62,8 +85,23 @@ class Interface(unittest.TestCase):
                             found = list(inspect.signature(getattr(kind, method)).parameters)
                             self.assertEqual([word for word in found if word != "self"], words)
 
+    def test_functions_are_defined_in_their_files(self):
+        for module, functions in FUNCTIONS.items():
+            defined = [part.name for part in tree_of(module).body if isinstance(part, ast.FunctionDef)]
+            for name, parameters in functions.items():
+                with self.subTest(module, name=name):
+                    self.assertIn(name, defined)
+                    function = getattr(importlib.import_module("poisonruns." + module), name)
+                    self.assertEqual(function.__module__, "poisonruns." + module)
+                    self.assertEqual(list(inspect.signature(function).parameters), parameters)
+
+    def test_defaults_of_an_evidence(self):
+        kind = importlib.import_module("poisonruns.evidence").Evidence
+        told = [part.default for part in inspect.signature(kind).parameters.values()]
+        self.assertEqual(told, [inspect.Parameter.empty, (), 1, 0])
+
     def test_read_is_a_class_method(self):
-        for module, name in [("runs", "Run"), ("tables", "Table")]:
+        for module, name in [("runs", "Run"), ("tables", "Table"), ("evidence", "Evidence")]:
             kind = getattr(importlib.import_module("poisonruns." + module), name)
             self.assertIsInstance(vars(kind)["read"], classmethod)
 
@@ -71,4 +109,6 @@ class Interface(unittest.TestCase):
         run = importlib.import_module("poisonruns.runs").Run([[("a", True)]])
         table = importlib.import_module("poisonruns.tables").Table({"a": [("sets", "on")]})
         self.assertLessEqual({"rows", "names", "orders"}, set(vars(run)))
+        evidence = importlib.import_module("poisonruns.evidence").Evidence(["a"])
         self.assertLessEqual({"names", "things"}, set(vars(table)))
+        self.assertLessEqual({"names", "runs", "things", "slips"}, set(vars(evidence)))

@@ -1,4 +1,4 @@
-"""The plainest of the rules for the code: L1 to L4, L8, L10, L14, L16, L17, L25 and L27."""
+"""The plainest of the rules for the code: L1 to L5, L7, L8, L10, L14, L16, L17, L25 and L27."""
 
 import ast
 import builtins
@@ -7,6 +7,7 @@ import re
 import unittest
 
 import poisonruns
+from poisonruns.space import Space
 
 FOLDER = os.path.dirname(os.path.abspath(poisonruns.__file__))
 BUILTINS = """len range enumerate zip min max sum abs sorted reversed int str bool list tuple dict set isinstance ord repr
@@ -16,12 +17,13 @@ NotImplemented classmethod staticmethod property super""".split()
 METHODS = """append clear copy count endswith extend find get index insert isalnum isalpha isdigit islower isspace isupper
 items join keys ljust lower lstrip partition pop remove replace reverse rfind rjust rpartition rsplit rstrip setdefault
 split splitlines startswith strip update upper values zfill bit_length title capitalize swapcase casefold center
-expandtabs removeprefix removesuffix rindex isascii isdecimal isnumeric istitle isidentifier isprintable add discard
-sort""".split()
+expandtabs removeprefix removesuffix rindex isascii isdecimal isnumeric istitle isidentifier isprintable add
+discard""".split()
 NOT_USED = """register mro elements open input law version_info with_traceback add_note type typing enum Enum dataclass
 namedtuple NamedTuple TypedDict Generic Protocol ABC compile dir eval exec exit globals help id locals os quit vars
 frozenset bytes chr print hash callable filter round format""".split()
-FORBIDDEN = (ast.Global, ast.AsyncFunctionDef, ast.Await, ast.Div, ast.Import, ast.AnnAssign, ast.Set)
+FORBIDDEN = (ast.Global, ast.AsyncFunctionDef, ast.Await, ast.Div, ast.Import, ast.AnnAssign, ast.Set, ast.GeneratorExp,
+             ast.Yield, ast.YieldFrom, ast.Match, ast.NamedExpr, ast.Nonlocal)
 
 
 def sources():
@@ -122,3 +124,22 @@ class Words(unittest.TestCase):
                     self.assertNotIn(getattr(part, field, None), NOT_USED, (name, getattr(part, "lineno", None)))
                 if isinstance(part, ast.Constant) and isinstance(part.value, str):
                     self.assertNotIn("%", part.value, name)
+
+    def test_what_has_an_index_is_not_iterable(self):
+        for name, text in sources():
+            for part in ast.walk(ast.parse(text)):
+                if isinstance(part, ast.ClassDef):
+                    own = {method.name: method for method in part.body if isinstance(method, ast.FunctionDef)}
+                    if "__getitem__" in own:
+                        self.assertEqual([type(row) for row in own["__iter__"].body], [ast.Raise], name)
+
+    def test_what_is_not_written_beside_an_index(self):
+        for name, text in sources():
+            for word in ["(" + "type)", "Meta", "metaclass="]:
+                self.assertNotIn(word, text, name)
+
+    def test_no_number_of_more_than_900_digits(self):
+        for names, things in [("abcd", 1), ("ab", 2), ("abcdef", 1), ("abc", 2)]:
+            space = Space(list(names), things)
+            for tables in [space.every, *space.failing(list(names) * 2)]:
+                self.assertTrue(all(0 <= bits < 10 ** 900 for bits in tables))
