@@ -33,6 +33,11 @@ def is_order(value):
     return len(names) > 0 and all([is_name(name) for name in names])
 
 
+def longer(rows, names):
+    """The rows with one more of these names, which they do not have yet: ascending if the rows and the names are."""
+    return [(*row, name) for row in rows for name in names if name not in row]
+
+
 def check_rows(rows, names):
     """Raises the error that any value as rows of names deserves where only the tests `names` are known."""
     at = first_wrong([is_order(row) for row in items_of(rows)])

@@ -2,7 +2,7 @@
 
 from poisonruns.basics import is_integer, is_order
 from poisonruns.errors import InvalidEvidence, InvalidText, Mismatch, NoRun
-from poisonruns.runs import Run
+from poisonruns.runs import Run, read_rows
 
 
 def are_names(value):
@@ -51,7 +51,7 @@ def read_numbers(line):
 def read_run(line, at, names):
     """The run in the line with the number `at` of a text."""
     try:
-        run = Run.read(line)
+        run = Run(read_rows(line))
     except InvalidText:
         raise InvalidText(at) from None
     if not is_run_of(run, names):

@@ -1,6 +1,6 @@
 """Orders: in which all tests surely pass, where things have to be cleared, and which have each test behind each."""
 
-from poisonruns.basics import check_rows
+from poisonruns.basics import check_rows, longer
 from poisonruns.space import view_of
 
 
@@ -11,8 +11,7 @@ def safe_rows(evidence):
     last = [()]
     for _ in evidence.names:
         # Only what passes can be the beginning of a longer row that passes.
-        longer = [(*row, name) for row in last for name in evidence.names if name not in row]
-        last = [row for row in longer if view.passes(row)]
+        last = [row for row in longer(last, evidence.names) if view.passes(row)]
         found = found + last
     return found
 
@@ -77,7 +76,7 @@ def orders_of(names):
     """All orders of these names."""
     found = [()]
     for _ in names:
-        found = [(*order, name) for order in found for name in names if name not in order]
+        found = longer(found, names)
     return found
 
 

@@ -31,6 +31,14 @@ def read_place(word):
     return (name, name != word)
 
 
+def read_rows(text):
+    """The rows of the run with the text `text`."""
+    rows = [[read_place(word) for word in row.split(" ")] for row in text.split(" | ")]
+    if wrong_row(rows) is not None:
+        raise InvalidText(0)
+    return rows
+
+
 class Run:
     """What was seen: rows of tests, run side by side, and which of the tests failed."""
 
@@ -45,10 +53,7 @@ class Run:
     @classmethod
     def read(cls, text):
         """The run with this text."""
-        rows = [[read_place(word) for word in row.split(" ")] for row in text.split(" | ")]
-        if wrong_row(rows) is not None:
-            raise InvalidText(0)
-        return cls(rows)
+        return cls(read_rows(text))
 
     def __add__(self, other):
         if not isinstance(other, Run):

@@ -105,19 +105,16 @@ class Space:
         return [word for word, tables in zip(words_of(what), having) if any(both(one, tables))][0]
 
 
-def explaining(space, evidence):
-    """The set of the tables of the space that explain an evidence with its names and things."""
-    # More slips than places are as good as one for each place.
-    slips = min(evidence.slips, sum([len(run) for run in evidence.runs]))
-    by_misses = [space.every] + [space.none] * slips
-    for run in evidence.runs:
-        for row, order in zip(run.rows, run.orders):
-            for (_, failed), failing in zip(row, space.failing(order)):
-                by_misses = moved(by_misses, but(space.every, failing) if failed else failing)
-    found = space.none
-    for tables in by_misses:
-        found = either(found, tables)
-    return found
+def wrong_of(space, run):
+    """For each row of a run, and each place in it, the set of the tables that have another outcome there."""
+    return [[but(space.every, failing) if failed else failing
+             for (_, failed), failing in zip(row, space.failing(order))]
+            for row, order in zip(run.rows, run.orders)]
+
+
+def without_misses(space, most):
+    """The sets of tables by their numbers of misses, up to so many, where nothing was seen yet."""
+    return [space.every] + [space.none] * most
 
 
 def moved(by_misses, wrong):
@@ -125,6 +122,31 @@ def moved(by_misses, wrong):
     stay = [but(tables, wrong) for tables in by_misses]
     move = [both(tables, wrong) for tables in by_misses[:-1]]
     return stay[:1] + [either(one, other) for one, other in zip(stay[1:], move)]
+
+
+def with_run(by_misses, wrong):
+    """The sets of tables by their numbers of misses, where one more run was seen; `wrong` is told by `wrong_of`."""
+    for row in wrong:
+        for tables in row:
+            by_misses = moved(by_misses, tables)
+    return by_misses
+
+
+def most_misses(evidence):
+    """How many misses a table may have that explains an evidence."""
+    # More slips than places are as good as one for each place.
+    return min(evidence.slips, sum([len(run) for run in evidence.runs]))
+
+
+def explaining(space, evidence):
+    """The set of the tables of the space that explain an evidence with its names and things."""
+    by_misses = without_misses(space, most_misses(evidence))
+    for run in evidence.runs:
+        by_misses = with_run(by_misses, wrong_of(space, run))
+    found = space.none
+    for tables in by_misses:
+        found = either(found, tables)
+    return found
 
 
 class View:

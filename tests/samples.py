@@ -1,6 +1,8 @@
 """Values of every kind for the tests, and small helpers."""
 
 from poisonruns import errors
+from poisonruns.bench import Bench
+from poisonruns.desk import Desk
 from poisonruns.evidence import Evidence
 from poisonruns.runs import Run
 from poisonruns.tables import Table
@@ -13,6 +15,13 @@ def nested(depth, value, kind):
     return value
 
 
+def seeing_bench():
+    """A bench that has done something."""
+    bench = Bench(Evidence(["a"]))
+    bench.see(Run([[("a", True)]]))
+    return bench
+
+
 def any_values():
     """Values of every kind that "any value" means, made anew. None of them is a name, a row or a sequence of rows."""
     return [
@@ -23,6 +32,7 @@ def any_values():
         nested(8, "a", list), nested(8, "a", tuple), nested(7, [], tuple),
         Run([[("a", True)]]), Table({"a": [("sets", "on")]}), [Run([[("a", True)]])], (Table({"a": [("sets", "on")]}),),
         Evidence(["a"]), [Evidence(["a"], [Run([[("a", True)]])])], (Evidence(["b", "a"], (), 2, 1),),
+        Bench(Evidence(["a"])), seeing_bench(), [seeing_bench()], seeing_bench().trial(), Desk(), (Desk(),),
         errors.PoisonError(), errors.Impossible(), errors.InvalidRun(3), errors.NoTest("a"), [errors.NoRun(1)],
     ]
 

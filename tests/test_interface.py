@@ -34,6 +34,13 @@ CLASSES = {
             ("__str__", []),
         ]),
     },
+    "bench": {
+        "Bench": (["evidence"], [
+            ("evidence", None), ("runs", None), ("see", ["run"]), ("several", ["runs"]), ("allow", ["slips"]),
+            ("drop", ["at"]), ("undo", []), ("trial", []), ("within", ["work"]), ("__len__", []),
+        ]),
+    },
+    "desk": {"Desk": ([], [("say", ["command"])])},
 }
 FUNCTIONS = {
     "deciding": {
@@ -50,6 +57,8 @@ FUNCTIONS = {
         "safe_order": ["evidence"], "safe_orders": ["evidence"], "clearings": ["evidence", "order"],
         "apart": ["evidence", "workers"], "near": ["names"],
     },
+    "blame": {"least_slips": ["evidence"], "conflict": ["evidence"], "chance": ["evidence"]},
+    "asking": {"best_row": ["evidence", "longest"]},
 }
 PLAIN = ["PoisonError", "Impossible", "InvalidCommand", "Mismatch"]
 
@@ -105,6 +114,11 @@ class Interface(unittest.TestCase):
             kind = getattr(importlib.import_module("poisonruns." + module), name)
             self.assertIsInstance(vars(kind)["read"], classmethod)
 
+    def test_properties(self):
+        kind = importlib.import_module("poisonruns.bench").Bench
+        for name in ["evidence", "runs"]:
+            self.assertIsInstance(vars(kind)[name], property)
+
     def test_attributes_are_set_when_an_object_is_created(self):
         run = importlib.import_module("poisonruns.runs").Run([[("a", True)]])
         table = importlib.import_module("poisonruns.tables").Table({"a": [("sets", "on")]})
@@ -112,3 +126,4 @@ class Interface(unittest.TestCase):
         evidence = importlib.import_module("poisonruns.evidence").Evidence(["a"])
         self.assertLessEqual({"names", "things"}, set(vars(table)))
         self.assertLessEqual({"names", "runs", "things", "slips"}, set(vars(evidence)))
+        self.assertIn("bench", vars(importlib.import_module("poisonruns.desk").Desk()))

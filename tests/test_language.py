@@ -1,4 +1,4 @@
-"""The plainest of the rules for the code: L1 to L5, L7, L8, L10, L14, L16, L17, L25 and L27."""
+"""The plainest of the rules for the code: L1 to L8, L10, L14, L16 to L18, L23, L25 and L27."""
 
 import ast
 import builtins
@@ -14,6 +14,8 @@ BUILTINS = """len range enumerate zip min max sum abs sorted reversed int str bo
 any all divmod pow getattr hasattr setattr iter next map Exception ValueError TypeError KeyError IndexError LookupError
 ZeroDivisionError ArithmeticError OverflowError RuntimeError NotImplementedError AttributeError StopIteration
 NotImplemented classmethod staticmethod property super""".split()
+# Where examples were tried, `_` is among them.
+TAKEN = set(vars(builtins)) - {"_"}
 METHODS = """append clear copy count endswith extend find get index insert isalnum isalpha isdigit islower isspace isupper
 items join keys ljust lower lstrip partition pop remove replace reverse rfind rjust rpartition rsplit rstrip setdefault
 split splitlines startswith strip update upper values zfill bit_length title capitalize swapcase casefold center
@@ -102,12 +104,12 @@ class Words(unittest.TestCase):
     def test_builtins(self):
         for name, text in sources():
             for part in ast.walk(ast.parse(text)):
-                if isinstance(part, ast.Name) and part.id in vars(builtins):
+                if isinstance(part, ast.Name) and part.id in TAKEN:
                     self.assertIn(part.id, BUILTINS, (name, part.lineno))
                     self.assertIsInstance(part.ctx, ast.Load, (name, part.lineno))
                 if isinstance(part, (ast.arg, ast.FunctionDef, ast.ClassDef)):
                     told = part.arg if isinstance(part, ast.arg) else part.name
-                    self.assertNotIn(told, vars(builtins), name)
+                    self.assertNotIn(told, TAKEN, name)
 
     def test_methods(self):
         own = {part.name for _, text in sources() for part in ast.walk(ast.parse(text))
@@ -116,6 +118,38 @@ class Words(unittest.TestCase):
             for part in ast.walk(ast.parse(text)):
                 if isinstance(part, ast.Call) and isinstance(part.func, ast.Attribute):
                     self.assertIn(part.func.attr, own | set(METHODS), (name, part.lineno))
+
+    def test_no_method_is_read_off_a_class(self):
+        # So `runs` may be a property of one class and an attribute of another.
+        classes = {part.name for _, text in sources() for part in ast.walk(ast.parse(text))
+                   if isinstance(part, ast.ClassDef)}
+        for name, text in sources():
+            for part in ast.walk(ast.parse(text)):
+                if isinstance(part, ast.Attribute) and isinstance(part.value, ast.Name):
+                    self.assertNotIn(part.value.id, classes, (name, part.lineno))
+
+    def test_what_is_iterated_at_once(self):
+        for name, text in sources():
+            tree = ast.parse(text)
+            fine = [there.iter for there in ast.walk(tree) if isinstance(there, (ast.For, ast.comprehension))]
+            fine += [there.args[0] for there in ast.walk(tree) if isinstance(there, ast.Call) and there.args
+                     and isinstance(there.func, ast.Name) and there.func.id in TAKEN]
+            for part in ast.walk(tree):
+                if isinstance(part, ast.Call):
+                    called = part.func.attr if isinstance(part.func, ast.Attribute) else getattr(part.func, "id", None)
+                    if called in ("range", "zip", "enumerate", "reversed", "items", "keys", "values"):
+                        self.assertIn(part, fine, (name, part.lineno))
+
+    def test_what_stands_behind_a_block(self):
+        found = 0
+        for name, text in sources():
+            for part in ast.walk(ast.parse(text)):
+                if isinstance(part, ast.FunctionDef) and part.name == "__exit__":
+                    found += 1
+                    for row in part.body:
+                        self.assertIsInstance(row, ast.Assign, (name, row.lineno))
+                        self.assertIsInstance(row.value, ast.Attribute, (name, row.lineno))
+        self.assertEqual(found, 1)
 
     def test_words_that_are_not_used(self):
         for name, text in sources():
