@@ -9,16 +9,20 @@ class Trial:
     def __init__(self, bench):
         self._bench = bench
         self._evidence = None
+        self._runs = ()
         self._past = ()
 
     def __enter__(self):
-        self._evidence = self._bench.evidence
-        self._past = self._bench._past
-        return self._bench
+        bench = self._bench
+        self._evidence = bench.evidence
+        self._runs = bench.runs
+        self._past = bench._past
+        return bench
 
     def __exit__(self, kind, value, trace):
         bench = self._bench
         bench._evidence = self._evidence
+        bench.runs = self._runs
         bench._past = self._past
 
 
@@ -26,19 +30,12 @@ class Bench:
     """An evidence that grows."""
 
     def __init__(self, evidence):
-        self._evidence = evidence
-        # For each deed that can be taken back the evidence ahead of it.
-        self._past = ()
+        self._put(evidence, ())
 
     @property
     def evidence(self):
         """The evidence as it is now."""
         return self._evidence
-
-    @property
-    def runs(self):
-        """The runs of the evidence as it is now."""
-        return self._evidence.runs
 
     def see(self, run):
         """Adds a run."""
@@ -67,8 +64,7 @@ class Bench:
         """Takes back the last deed, and tells whether there was one."""
         if len(self._past) == 0:
             return False
-        self._evidence = self._past[-1]
-        self._past = self._past[:-1]
+        self._put(self._past[-1], self._past[:-1])
         return True
 
     def trial(self):
@@ -82,8 +78,14 @@ class Bench:
 
     def _become(self, evidence):
         """Does a deed behind which this is the evidence."""
-        self._past = (*self._past, self._evidence)
+        self._put(evidence, (*self._past, self._evidence))
+
+    def _put(self, evidence, past):
+        """Makes this the evidence; `past` has, for each deed that can be taken back, the evidence ahead of it."""
         self._evidence = evidence
+        # No property, as an evidence has an attribute of this name: it is set whenever the evidence is.
+        self.runs = evidence.runs
+        self._past = past
 
     def __len__(self):
         return len(self._past)

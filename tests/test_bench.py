@@ -60,10 +60,6 @@ class Properties(unittest.TestCase):
                 self.assertIs(bench.undo(), False)
                 self.assertEqual(bench.evidence, evidence)
 
-    def test_they_are_properties(self):
-        self.assertIsInstance(vars(Bench)["evidence"], property)
-        self.assertIsInstance(vars(Bench)["runs"], property)
-
     def test_not_iterable(self):
         for bench in [Bench(START), grown()]:
             self.assertRaises(TypeError, iter, bench)
@@ -415,6 +411,154 @@ class Within(unittest.TestCase):
         self.assertEqual((bench.evidence, len(bench)), (START, 0))
 
 
+class Runs(unittest.TestCase):
+    """`bench.runs` at each time, which the bench keeps beside its evidence."""
+
+    def check(self, bench, due=None):
+        self.assertIs(type(bench.runs), tuple)
+        self.assertEqual(bench.runs, bench.evidence.runs)
+        if due is not None:
+            self.assertEqual([str(run) for run in bench.runs], due)
+
+    def refuse(self, bench):
+        """Each kind of deed, refused."""
+        before = [str(run) for run in bench.runs]
+        for call, value in [(bench.see, OTHER), (bench.see, None), (bench.allow, -1), (bench.allow, True),
+                            (bench.drop, len(before)), (bench.drop, -1), (bench.several, [ONE, OTHER]),
+                            (bench.several, [None])]:
+            self.assertIsNotNone(raised(call, value))
+            self.check(bench, before)
+
+    def test_when_it_is_made(self):
+        self.check(Bench(START), ["a b!", "b | a"])
+        self.check(Bench(Evidence(["a"])), [])
+        self.check(Bench(Evidence(["a", "b"], [Run.read("b")], 2, 1)), ["b"])
+
+    def test_behind_each_kind_of_deed_refused_deed_and_undo(self):
+        bench, due = Bench(START), ["a b!", "b | a"]
+        told = [due]
+        for call, value, due in [
+                (bench.see, ONE, ["a b!", "b | a", "a c b"]),
+                (bench.drop, 0, ["b | a", "a c b"]),
+                (bench.allow, 2, ["b | a", "a c b"]),
+                (bench.several, [TWO, ONE], ["b | a", "a c b", "b! | c", "a c b"]),
+                (bench.drop, 1, ["b | a", "b! | c", "a c b"]),
+                (bench.several, (TWO,), ["b | a", "b! | c", "a c b", "b! | c"]),
+                (bench.drop, 3, ["b | a", "b! | c", "a c b"])]:
+            call(value)
+            told.append(due)
+            self.check(bench, due)
+            bench.several([])
+            self.check(bench, due)
+            self.refuse(bench)
+        for due in told[-2::-1]:
+            self.assertIs(bench.undo(), True)
+            self.check(bench, due)
+            self.refuse(bench)
+        self.assertIs(bench.undo(), False)
+        self.check(bench, told[0])
+
+    def test_until_there_are_none(self):
+        bench = Bench(START)
+        bench.drop(0)
+        self.check(bench, ["b | a"])
+        bench.drop(0)
+        self.check(bench, [])
+        bench.undo()
+        self.check(bench, ["b | a"])
+
+    def test_a_deed_behind_an_undo(self):
+        bench = grown()
+        bench.undo()
+        bench.undo()
+        bench.see(TWO)
+        self.check(bench, ["a b!", "b | a", "a c b", "b! | c"])
+        bench.undo()
+        self.check(bench, ["a b!", "b | a", "a c b"])
+
+    def test_trials_that_are_left_at_their_end(self):
+        bench = grown()
+        due = ["b | a", "a c b", "b! | c", "a c b"]
+        with bench.trial() as held:
+            self.check(held, due)
+            held.see(TWO)
+            self.check(held, [*due, "b! | c"])
+            with held.trial() as inner:
+                self.check(inner, [*due, "b! | c"])
+                inner.drop(0)
+                self.check(inner, [*due[1:], "b! | c"])
+                with inner.trial():
+                    while inner.undo():
+                        self.check(inner)
+                    self.check(bench, ["a b!", "b | a"])
+                    self.refuse(bench)
+                self.check(bench, [*due[1:], "b! | c"])
+            self.check(bench, [*due, "b! | c"])
+            bench.undo()
+            self.check(bench, due)
+            bench.undo()
+            self.check(bench, ["a b!", *due])
+        self.check(bench, due)
+        bench.undo()
+        self.check(bench, ["a b!", *due])
+
+    def test_trials_that_are_left_by_an_error(self):
+        bench = grown()
+        due = ["b | a", "a c b", "b! | c", "a c b"]
+        with self.assertRaises(Ending):
+            with bench.trial():
+                bench.several([ONE, ONE])
+                with self.assertRaises(NoRun):
+                    with bench.trial():
+                        bench.drop(0)
+                        bench.drop(99)
+                self.check(bench, [*due, "a c b", "a c b"])
+                with self.assertRaises(Refused):
+                    with bench.trial():
+                        bench.undo()
+                        bench.undo()
+                        self.check(bench, ["a b!", *due])
+                        bench.several([ONE, OTHER])
+                self.check(bench, [*due, "a c b", "a c b"])
+                bench.drop(5)
+                self.check(bench, [*due, "a c b"])
+                raise Ending()
+        self.check(bench, due)
+        self.refuse(bench)
+
+    def test_work_within_work(self):
+        due = ["b | a", "a c b", "b! | c", "a c b"]
+
+        def inner(bench):
+            bench.undo()
+            bench.undo()
+            self.check(bench, ["a b!", *due])
+            return bench.runs
+
+        def work(bench):
+            bench.see(TWO)
+            self.check(bench, [*due, "b! | c"])
+            runs = bench.within(inner)
+            self.check(bench, [*due, "b! | c"])
+            raised(bench.within, lambda held: (held.drop(1), held.drop(9)))
+            self.check(bench, [*due, "b! | c"])
+            return runs
+        bench = grown()
+        for _ in range(2):
+            self.assertEqual([str(run) for run in bench.within(work)], ["a b!", *due])
+            self.check(bench, due)
+
+    def test_what_was_handed_out_stays(self):
+        bench = Bench(START)
+        told = [bench.runs]
+        bench.see(ONE)
+        with bench.trial():
+            bench.drop(0)
+            told.append(bench.runs)
+        bench.undo()
+        self.assertEqual([[str(run) for run in runs] for runs in told], [["a b!", "b | a"], ["b | a", "a c b"]])
+
+
 class Model:
     """A bench as the document tells it, with all evidences that it ever had in a list."""
 
@@ -461,3 +605,4 @@ class ManyDeeds(unittest.TestCase):
                 model.do(deed, value)
             self.assertEqual(bench.evidence, model.told[-1])
             self.assertEqual((len(bench), bench.runs), (len(model.told) - 1, model.told[-1].runs))
+            self.assertIs(type(bench.runs), tuple)

@@ -36,7 +36,7 @@ CLASSES = {
     },
     "bench": {
         "Bench": (["evidence"], [
-            ("evidence", None), ("runs", None), ("see", ["run"]), ("several", ["runs"]), ("allow", ["slips"]),
+            ("evidence", None), ("see", ["run"]), ("several", ["runs"]), ("allow", ["slips"]),
             ("drop", ["at"]), ("undo", []), ("trial", []), ("within", ["work"]), ("__len__", []),
         ]),
     },
@@ -116,8 +116,11 @@ class Interface(unittest.TestCase):
 
     def test_properties(self):
         kind = importlib.import_module("poisonruns.bench").Bench
-        for name in ["evidence", "runs"]:
-            self.assertIsInstance(vars(kind)[name], property)
+        self.assertIsInstance(vars(kind)["evidence"], property)
+        # The language lets no class have a property of a name that another one, as here the evidence, assigns.
+        evidence = importlib.import_module("poisonruns.evidence").Evidence(["a"])
+        self.assertEqual(kind(evidence).evidence, evidence)
+        self.assertEqual(kind(evidence).runs, ())
 
     def test_attributes_are_set_when_an_object_is_created(self):
         run = importlib.import_module("poisonruns.runs").Run([[("a", True)]])

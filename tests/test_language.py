@@ -120,13 +120,35 @@ class Words(unittest.TestCase):
                     self.assertIn(part.func.attr, own | set(METHODS), (name, part.lineno))
 
     def test_no_method_is_read_off_a_class(self):
-        # So `runs` may be a property of one class and an attribute of another.
         classes = {part.name for _, text in sources() for part in ast.walk(ast.parse(text))
                    if isinstance(part, ast.ClassDef)}
         for name, text in sources():
             for part in ast.walk(ast.parse(text)):
                 if isinstance(part, ast.Attribute) and isinstance(part.value, ast.Name):
                     self.assertNotIn(part.value.id, classes, (name, part.lineno))
+
+    def test_no_property_has_a_name_that_is_assigned(self):
+        # Properties go by their names: an attribute of another class with such a name would need a setter.
+        trees = [(name, ast.parse(text)) for name, text in sources()]
+        properties = [part.name for _, tree in trees for part in ast.walk(tree) if isinstance(part, ast.FunctionDef)
+                      and "property" in [getattr(there, "id", None) for there in part.decorator_list]]
+        self.assertEqual(properties, ["evidence"])
+        methods = [part.name for _, tree in trees for part in ast.walk(tree) if isinstance(part, ast.FunctionDef)]
+        for told in properties:
+            self.assertEqual(methods.count(told), 1)
+        for name, tree in trees:
+            for part in ast.walk(tree):
+                if isinstance(part, ast.Attribute) and not isinstance(part.ctx, ast.Load):
+                    self.assertNotIn(part.attr, properties, (name, part.lineno))
+
+    def test_no_method_has_a_name_that_is_assigned(self):
+        trees = [(name, ast.parse(text)) for name, text in sources()]
+        methods = [part.name for _, tree in trees for there in tree.body if isinstance(there, ast.ClassDef)
+                   for part in there.body if isinstance(part, ast.FunctionDef)]
+        for name, tree in trees:
+            for part in ast.walk(tree):
+                if isinstance(part, ast.Attribute) and not isinstance(part.ctx, ast.Load):
+                    self.assertNotIn(part.attr, methods, (name, part.lineno))
 
     def test_what_is_iterated_at_once(self):
         for name, text in sources():
